@@ -5,6 +5,7 @@ import (
 	"strings"
 
 	"murmur/api"
+	"murmur/words"
 )
 
 // parsePair reads two fractions; it answers false if one of the texts is none.
@@ -45,21 +46,8 @@ func parse(text string) (*big.Rat, bool) {
 
 // parseNumber reads a number of at most MaxDigits digits.
 func parseNumber(text string) (*big.Int, bool) {
-	if len(text) > api.MaxDigits || !isNumber(text) {
+	if len(text) > api.MaxDigits || !words.IsNumber(text) {
 		return nil, false
 	}
 	return new(big.Int).SetString(text, 10)
-}
-
-// isNumber tells whether the text is `0`, or digits the first of which is not 0.
-func isNumber(text string) bool {
-	if text == "" || text[0] == '0' && text != "0" {
-		return false
-	}
-	for i := range len(text) {
-		if text[i] < '0' || text[i] > '9' {
-			return false
-		}
-	}
-	return true
 }
