@@ -19,6 +19,9 @@ func (r record) text() string {
 type journal struct {
 	records []record
 	synced  int // how many of the records last
+	// Which sync from now on fails, counted from 1, or 0 if none does; unsigned,
+	// so that the greatest int has room for one more.
+	failing uint
 }
 
 // write puts a record to the journal's end and syncs all that stands there; it
@@ -31,7 +34,26 @@ func (j *journal) write(r record) (ok bool) {
 		}
 	}()
 	j.records = append(j.records, r)
-	return true // nothing makes a sync fail as long as Fail answers nothing
+	ok = j.failing != 1
+	j.failing -= min(j.failing, 1)
+	return ok
+}
+
+// failAt lets the n-th sync from now on fail, counted from 0.
+func (j *journal) failAt(n int) { j.failing = uint(n) + 1 }
+
+// crash leaves, of the records that are not synced, those that stand whole
+// within the first keep bytes; no sync is to fail then.
+func (j *journal) crash(keep int) {
+	lasting := j.synced
+	for _, r := range j.records[j.synced:] {
+		keep -= len(r.text())
+		if keep < 0 {
+			break
+		}
+		lasting++
+	}
+	*j = journal{records: j.records[:lasting], synced: lasting}
 }
 
 func (j *journal) text() string {

@@ -3,12 +3,14 @@ package murmur_test
 import (
 	"fmt"
 	"maps"
+	"math"
 	"math/big"
 	"math/rand"
 	"strings"
 	"testing"
 
 	"murmur/api"
+	"murmur/murmur"
 )
 
 // A model reckons what a server should answer, from the values that the texts
@@ -22,9 +24,9 @@ type model struct {
 	tape          string
 	tables        map[int]map[string]int // of the drawn tables, by the values
 	used          map[[2]int]bool        // by client and variable
-	spent         map[int]int
-	left          int
 	journal       string
+	synced        int // bytes of the journal
+	failing       int // syncs ahead of the one that fails; below 0, if none does
 	halted        bool
 }
 
@@ -34,14 +36,14 @@ func clientName(i int) string { return strings.Repeat(string(rune('a'+i)), i+1) 
 
 // randomModel has up to MaxVars variables, with rows and a tape to fit.
 func randomModel(r *rand.Rand) *model {
-	m := &model{noise: 1 + r.Intn(api.MaxNoise), budget: r.Intn(8), tables: map[int]map[string]int{}, used: map[[2]int]bool{}, spent: map[int]int{}}
-	m.left = m.budget
+	m := &model{noise: 1 + r.Intn(api.MaxNoise), budget: r.Intn([]int{8, 400}[r.Intn(2)])}
+	m.crash(0)
 	for i := range 1 + r.Intn(api.MaxVars) {
 		m.values = append(m.values, 2+r.Intn(2))
 		m.parents = append(m.parents, r.Perm(i)[:min(i, r.Intn(api.MaxParents+1))])
 	}
 	for range 1 + r.Intn(api.MaxClients) {
-		m.clients = append(m.clients, r.Intn(9))
+		m.clients = append(m.clients, r.Intn([]int{9, 300}[r.Intn(2)]))
 	}
 	for range r.Intn(12) {
 		var row []int
@@ -130,13 +132,16 @@ func (m *model) ask(client int, order []int, named map[int]int) string {
 			common++
 		}
 	}
-	if m.spent[client]+cost > m.clients[client] || common > m.left {
+	if journalSum(m.journal, clientName(client))+cost > m.clients[client] || journalSum(m.journal, "")+common > m.budget {
 		return "ERR budget"
 	}
 	if cost > 0 || common > 0 {
-		m.spent[client] += cost
-		m.left -= common
 		m.journal += fmt.Sprintf("%s:%d,%d;", clientName(client), cost, common)
+		m.failing--
+		if m.failing == -1 {
+			return "ERR store"
+		}
+		m.synced = len(m.journal)
 	}
 	for i := range m.values {
 		m.used[[2]int{client, i}] = m.used[[2]int{client, i}] || needed[i]
@@ -149,6 +154,54 @@ func (m *model) ask(client int, order []int, named map[int]int) string {
 	delete(evidence, order[0])
 	answer := new(big.Rat).Quo(m.chance(0, needed, named, nil), m.chance(0, needed, evidence, nil))
 	return "OK " + answer.RatString()
+}
+
+// crash works on the journal's text, byte by byte.
+func (m *model) crash(keep int) api.Errno {
+	if keep < 0 {
+		return api.ErrArg
+	}
+	lasting := m.journal[:m.synced]
+	for i := m.synced; i < len(m.journal) && keep > 0; i++ {
+		lasting += m.journal[i : i+1]
+		keep--
+	}
+	for lasting != "" && !strings.HasSuffix(lasting, ";") {
+		lasting = lasting[:len(lasting)-1]
+	}
+	m.journal, m.synced, m.failing, m.halted = lasting, len(lasting), -1, false
+	m.tables, m.used = map[int]map[string]int{}, map[[2]int]bool{}
+	return api.OK
+}
+
+func (m *model) fail(n int) api.Errno {
+	if n < 0 {
+		return api.ErrArg
+	}
+	m.failing = n
+	return api.OK
+}
+
+// journalSum reads a journal's text and adds up what that client has spent, or
+// what was spent in common if the name is empty.
+func journalSum(journal string, client string) int {
+	sum := 0
+	for text := range strings.SplitAfterSeq(journal, ";") {
+		if text == "" {
+			continue
+		}
+		name, costs, _ := strings.Cut(text, ":")
+		var cost, common int
+		if n, err := fmt.Sscanf(costs, "%d,%d;", &cost, &common); n != 2 || err != nil {
+			panic("no record: " + text)
+		}
+		if client == "" {
+			sum += common
+		} else if name == client {
+			sum += cost
+		}
+	}
+	return sum
 }
 
 // drawTable draws the cells of a table in the order of their keys.
@@ -220,32 +273,83 @@ func (m *model) chance(i int, needed map[int]bool, named map[int]int, chosen []i
 	return sum.Quo(sum, total)
 }
 
-// P5 to P8: servers at random, held against the model behind every request.
+// checkJournalSays holds Spent of these clients and Left against the journal's
+// text.
+func checkJournalSays(t *testing.T, s *murmur.Server, budget int, clients ...string) {
+	t.Helper()
+	journal := s.Journal()
+	for _, client := range clients {
+		if got, want := s.Spent(client), journalSum(journal, client); got != want {
+			t.Errorf("Spent(%q) = %d, want %d, by %q", client, got, want, journal)
+		}
+	}
+	if got, want := s.Left(), budget-journalSum(journal, ""); got != want {
+		t.Errorf("Left() = %d, want %d, by %q", got, want, journal)
+	}
+}
+
+// randomNumber is mostly one below the most.
+func randomNumber(r *rand.Rand, most int) int {
+	switch r.Intn(12) {
+	case 0:
+		return math.MaxInt
+	case 1:
+		return math.MinInt
+	case 2:
+		return -1
+	}
+	return r.Intn(most)
+}
+
+// randomCall makes a call of the server and of the model; it tells the call,
+// and what they answered.
+func (m *model) randomCall(r *rand.Rand, s *murmur.Server) (call string, got string, want string) {
+	switch r.Intn(8) {
+	case 0:
+		keep := randomNumber(r, 30)
+		return fmt.Sprintf("Crash(%d)", keep), fmt.Sprint(s.Crash(keep)), fmt.Sprint(m.crash(keep))
+	case 1, 2:
+		n := randomNumber(r, 3)
+		return fmt.Sprintf("Fail(%d)", n), fmt.Sprint(s.Fail(n)), fmt.Sprint(m.fail(n))
+	}
+	client := r.Intn(len(m.clients))
+	order, named := m.randomNamed(r)
+	request := requestText(client, order, named)
+	return fmt.Sprintf("Ask(%q)", request), s.Ask(request), m.ask(client, order, named)
+}
+
+// P5 to P10: servers and calls at random, held against the model behind every
+// call; nobody spends more than the budget.
 func TestModel(t *testing.T) {
 	r := rand.New(rand.NewSource(19))
 	seen := map[string]int{}
-	for range 400 {
+	for range 1000 {
 		m := randomModel(r)
 		config, rows, tape := m.config(), m.rowTexts(r), m.tape
 		s := newServer(t, config, rows, tape)
-		for range 25 {
-			client := r.Intn(len(m.clients))
-			order, named := m.randomNamed(r)
-			request := requestText(client, order, named)
-			got, want := s.Ask(request), m.ask(client, order, named)
-			if got != want {
-				t.Fatalf("%q, %q, %q: Ask(%q) = %q, want %q", config, rows, tape, request, got, want)
+		var names []string
+		for i := range m.clients {
+			names = append(names, clientName(i))
+		}
+		var calls []string
+		for range 40 {
+			call, got, want := m.randomCall(r, s)
+			calls = append(calls, call)
+			if got != want || s.Journal() != m.journal {
+				t.Fatalf("%q, %q, %q: %q answer %q with the journal %q, want %q, %q", config, rows, tape, calls, got, s.Journal(), want, m.journal)
 			}
-			spent := s.Spent(clientName(client))
-			if s.Journal() != m.journal || s.Left() != m.left || spent != m.spent[client] {
-				t.Fatalf("%q behind %q: %q, %d left, %d spent, want %q, %d, %d", config, request, s.Journal(), s.Left(), spent, m.journal, m.left, m.spent[client])
+			checkJournalSays(t, s, m.budget, names...)
+			for i, budget := range m.clients {
+				if s.Spent(names[i]) > budget || s.Left() < 0 {
+					t.Errorf("%q: %q: %s spent %d of %d, %d left", config, calls, names[i], s.Spent(names[i]), budget, s.Left())
+				}
 			}
 			kind, _, _ := strings.Cut(strings.TrimPrefix(got, "ERR "), " ")
 			seen[kind]++
 		}
 	}
-	for _, kind := range []string{"OK", "budget", "entropy", "halted"} {
-		if seen[kind] < 50 {
+	for _, kind := range []string{"OK", "budget", "store", "entropy", "halted", "0", "3"} {
+		if seen[kind] < 200 {
 			t.Errorf("%d answers were %s: too few to tell", seen[kind], kind)
 		}
 	}

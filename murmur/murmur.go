@@ -134,10 +134,25 @@ func (s *Server) Spent(client string) int { return s.journal.spentBy(client) }
 func (s *Server) Left() int { return s.config.budget - s.journal.spentInCommon() }
 
 // Fail says which sync will fail (P8).
-func (s *Server) Fail(n int) api.Errno { return api.OK }
+func (s *Server) Fail(n int) api.Errno {
+	if n < 0 {
+		return api.ErrArg
+	}
+	s.journal.failAt(n)
+	return api.OK
+}
 
 // Journal tells the journal's text (P8).
 func (s *Server) Journal() string { return s.journal.text() }
 
 // Crash lets the server go down and come up again (P9).
-func (s *Server) Crash(keep int) api.Errno { return api.OK }
+func (s *Server) Crash(keep int) api.Errno {
+	if keep < 0 {
+		return api.ErrArg
+	}
+	s.journal.crash(keep)
+	clear(s.cells)
+	clear(s.used)
+	s.halted = false
+	return api.OK
+}

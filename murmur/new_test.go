@@ -235,12 +235,12 @@ func TestNewKeepsNoList(t *testing.T) {
 	}
 }
 
-// P1: no text makes New or a method panic.
+// P1: no text or number makes New or a method panic.
 func FuzzNew(f *testing.F) {
-	f.Add(exampleConfig, "0,0", "1111", "ann a=0")
-	f.Add("noise 2\nbudget 9\nvar x 2\nvar y 3\nvar z 2 y x\nclient bob 9\n", "1,2,1", "11011", "bob z=1|x=1,y=2")
-	f.Add("noise", ",", "2", "|")
-	f.Fuzz(func(t *testing.T, config string, row string, tape string, request string) {
+	f.Add(exampleConfig, "0,0", "1111", "ann a=0", 0, 7)
+	f.Add("noise 2\nbudget 9\nvar x 2\nvar y 3\nvar z 2 y x\nclient bob 9\n", "1,2,1", "11011", "bob z=1|x=1,y=2", 1, 8)
+	f.Add("noise", ",", "2", "|", -1, -1)
+	f.Fuzz(func(t *testing.T, config string, row string, tape string, request string, n int, keep int) {
 		s, err := murmur.New(config, []string{row, row}, tape)
 		if (s == nil) != (err != api.OK) || isConfig(config) != (err == api.OK) && strings.Trim(tape, "01") == "" && len(tape) <= api.MaxTape {
 			t.Errorf("New(%q) = %v, %d", config, s != nil, err)
@@ -248,12 +248,20 @@ func FuzzNew(f *testing.F) {
 		if s == nil {
 			return
 		}
-		answer := s.Ask(request)
-		if !strings.HasPrefix(answer, "OK ") && !strings.HasPrefix(answer, "ERR ") {
-			t.Errorf("Ask(%q) = %q", request, answer)
+		if failed := s.Fail(n); (failed == api.ErrArg) != (n < 0) {
+			t.Errorf("Fail(%d) = %d", n, failed)
 		}
-		if s.Spent(request) != 0 && !regexp.MustCompile(`^[a-z]{1,4}$`).MatchString(request) || s.Left() < 0 {
-			t.Errorf("Spent(%q) = %d, Left is %d", request, s.Spent(request), s.Left())
+		for range 2 {
+			answer := s.Ask(request)
+			if !strings.HasPrefix(answer, "OK ") && !strings.HasPrefix(answer, "ERR ") {
+				t.Errorf("Ask(%q) = %q", request, answer)
+			}
+			if crashed := s.Crash(keep); (crashed == api.ErrArg) != (keep < 0) {
+				t.Errorf("Crash(%d) = %d", keep, crashed)
+			}
+			if s.Spent(request) != 0 && !regexp.MustCompile(`^[a-z]{1,4}$`).MatchString(request) || s.Left() < 0 {
+				t.Errorf("Spent(%q) = %d, Left is %d", request, s.Spent(request), s.Left())
+			}
 		}
 	})
 }
